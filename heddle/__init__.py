@@ -1,0 +1,1 @@
+"""Heddle: weaving told as text."""
