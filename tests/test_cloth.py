@@ -5,6 +5,7 @@ import unittest
 
 from heddle.cloth import back_of, ends_apart, measured, picks_apart, quarter_of
 from heddle.errors import NoCloth, NoStrand
+from samples import small_cloths
 
 CLOTH = ["##..#",
          "#...#",
@@ -21,16 +22,6 @@ ASKED = {
     "ends_apart, one wrong": lambda cloth: ends_apart(cloth, 0, 41),
     "picks_apart, one wrong": lambda cloth: picks_apart(cloth, 41, 0),
 }
-
-
-def all_cloths(ends, picks):
-    texts = ["".join(signs) for signs in itertools.product("#.", repeat=ends)]
-    return [list(cloth) for cloth in itertools.product(texts, repeat=picks)]
-
-
-def small_cloths():
-    """All cloths of up to three ends and three picks."""
-    return [cloth for ends in (1, 2, 3) for picks in (1, 2, 3) for cloth in all_cloths(ends, picks)]
 
 
 class TestWhatIsACloth(unittest.TestCase):

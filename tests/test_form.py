@@ -124,6 +124,87 @@ def faults_of_names(tree):
                 yield f"L8: line {node.lineno}: {node.id}"
 
 
+def faults_of_places(tree):
+    """L18, L22, L23, L24: calls and names that may stand in some places alone."""
+    holder = {part: node for node in ast.walk(tree) for part in ast.iter_child_nodes(node)}
+    classes = {node.name for node in ast.walk(tree) if isinstance(node, ast.ClassDef)}
+    classes |= {alias.name for node in ast.walk(tree) if isinstance(node, ast.ImportFrom) for alias in node.names
+                if re.match("[A-Z][a-z]", alias.name)}
+    for node in ast.walk(tree):
+        around = holder.get(node)
+        if walked_alone(node) and not walked_there(node, around):
+            yield f"L23: line {node.lineno}"
+        if isinstance(node, ast.Set) or called_name(node) in ("set", "frozenset") and not set_there(around):
+            yield f"L24: line {node.lineno}"
+        if isinstance(node, ast.Name) and isinstance(node.ctx, ast.Load):
+            called = isinstance(around, ast.Call) and around.func is node
+            if node.id in classes and not called and not isinstance(around, (ast.ClassDef, ast.ExceptHandler)):
+                if not called_name(around) == "isinstance" and not isinstance(around, ast.Attribute):
+                    yield f"L18: line {node.lineno}: {node.id}"
+            keyed = isinstance(around, (ast.keyword, ast.ExceptHandler, ast.ClassDef))
+            checked = called_name(around) == "isinstance" or isinstance(around, ast.Tuple)
+            if node.id in OWN_NAMES and not called and not keyed and not checked:
+                yield f"L22: line {node.lineno}: {node.id}"
+
+
+def called_name(node):
+    """The name that a call calls, or None."""
+    if isinstance(node, ast.Call) and isinstance(node.func, ast.Name):
+        return node.func.id
+    return None
+
+
+def walked_alone(node):
+    if called_name(node) in ("zip", "enumerate", "reversed", "range"):
+        return True
+    return isinstance(node, ast.Call) and isinstance(node.func, ast.Attribute) and node.func.attr in (
+        "items", "keys", "values")
+
+
+def walked_there(node, around):
+    if isinstance(around, (ast.For, ast.comprehension)):
+        return around.iter is node
+    if called_name(around) in ("list", "tuple", "dict", "sorted", "sum", "any", "all", "enumerate"):
+        return around.args[0] is node
+    if called_name(around) == "zip":
+        return True
+    if called_name(around) in ("min", "max"):
+        return around.args == [node]
+    return (isinstance(around, ast.Call) and isinstance(around.func, ast.Attribute) and around.func.attr == "join"
+            and isinstance(around.func.value, ast.Constant))
+
+
+def set_there(around):
+    if called_name(around) in ("sorted", "len"):
+        return not around.keywords
+    return isinstance(around, ast.Compare) or isinstance(around, ast.BinOp)
+
+
+def faults_of_shared(tree):
+    """L15: a list or dict of a file's top is only read."""
+    shared = {node.targets[0].id for node in tree.body
+              if isinstance(node, ast.Assign) and isinstance(node.value, (ast.List, ast.Dict))}
+    for node in ast.walk(tree):
+        if isinstance(node, ast.Subscript) and isinstance(node.ctx, ast.Store):
+            if isinstance(node.value, ast.Name) and node.value.id in shared:
+                yield f"L15: line {node.lineno}"
+        if isinstance(node, (ast.Return, ast.Assign)) and isinstance(node.value, ast.Name) and node.value.id in shared:
+            yield f"L15: line {node.lineno}"
+        if isinstance(node, ast.Attribute) and isinstance(node.value, ast.Name) and node.value.id in shared:
+            if node.attr not in ("get", "items", "keys", "values", "index", "count", "copy"):
+                yield f"L15: line {node.lineno}"
+
+
+def faults_of_handlers(tree):
+    """L19: which errors are taken, and that each is made where it is raised."""
+    for node in ast.walk(tree):
+        if isinstance(node, ast.Raise) and not isinstance(node.exc, ast.Call):
+            yield f"L19: line {node.lineno}"
+        if isinstance(node, ast.ExceptHandler):
+            if node.type is None or getattr(node.type, "id", "") in ("Exception", "TypeError"):
+                yield f"L19: line {node.lineno}"
+
+
 def given_name(node):
     """The name of a parameter or of a name that is given a value, or None."""
     if isinstance(node, ast.arg):
@@ -145,7 +226,9 @@ def values_of(trees):
 
 def faults_of(text, own_methods):
     tree = ast.parse(text)
-    faults = list(faults_of_text(text)) + list(faults_of_top(tree)) + list(faults_of_names(tree))
+    faults = list(faults_of_text(text))
+    for of_tree in (faults_of_top, faults_of_names, faults_of_places, faults_of_shared, faults_of_handlers):
+        faults.extend(of_tree(tree))
     for node in ast.walk(tree):
         faults.extend(faults_of_node(node, own_methods))
         if isinstance(node, ast.FunctionDef):
@@ -174,6 +257,13 @@ class TestForm(unittest.TestCase):
 
     def test_no_name_is_a_method_and_a_value(self):
         self.assertEqual(methods_of(self.trees.values()) & values_of(self.trees.values()), set())
+
+    def test_own_methods_and_values_are_called_like_none_of_pythons_own(self):
+        owned = {name for kind in (str, int, list, dict, set, bytes) for name in dir(kind)}
+        self.assertEqual((methods_of(self.trees.values()) - WRITTEN_METHODS) & owned - OWN_METHODS - {"add", "discard"},
+                         set())
+        free = set("count index title find get join lower upper split strip copy add".split())
+        self.assertEqual((values_of(self.trees.values()) & owned) - free, set())
 
     def test_names_are_drawn_from_the_file_that_defines_them_and_never_in_a_round(self):
         draws = {name: [node for node in tree.body if isinstance(node, ast.ImportFrom)]
@@ -209,7 +299,16 @@ class TestFaultsAreSeen(unittest.TestCase):
                            ("L8", "def a(b):\n    return map(b, b)"), ("L12", "def _a():\n    pass"),
                            ("L17", "def a(b):\n    b.register(1)"), ("L15", "def a(hash):\n    pass"),
                            ("L15", "def a():\n    next = 1"), ("L20", "def a(b, c):\n    return b is c"),
-                           ("L25", "def a(b):\n    b.sort()"), ("L27", "a = '%'")):
+                           ("L25", "def a(b):\n    b.sort()"), ("L27", "a = '%'"),
+                           ("L15", "A = [1]\n\n\ndef a():\n    A.append(2)"), ("L15", "A = [1]\n\n\ndef a():\n    return A"),
+                           ("L15", "A = [1]\n\n\ndef a():\n    A[0] = 2"),
+                           ("L18", "class A:\n    pass\n\n\ndef a(b):\n    b(A)"),
+                           ("L19", "def a(b):\n    raise b"), ("L19", "def a():\n    try:\n        b()\n    except:\n        c()"),
+                           ("L22", "def a(b):\n    return b(len)"),
+                           ("L23", "def a(b):\n    c = range(b)"), ("L23", "def a(b):\n    return b.items()"),
+                           ("L23", "def a(b, c):\n    return max(c, range(b))"), ("L23", "def a(b):\n    return b(zip(b, b))"),
+                           ("L24", "def a(b):\n    c = set(b)"), ("L24", "def a(b):\n    for c in set(b):\n        c()"),
+                           ("L24", "def a(b):\n    return sorted(set(b), key=len)")):
             faults = faults_of(text, set())
             self.assertTrue(any(rule in fault for fault in faults), (rule, text, faults))
 
