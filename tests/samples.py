@@ -41,3 +41,41 @@ def lies_over(cloth, one, other):
 
 def crosses(cloth, one, other):
     return (one < len(cloth[0])) != (other < len(cloth[0]))
+
+
+def strands_of(cloth):
+    return list(range(len(cloth[0]) + len(cloth)))
+
+
+def reached_within(cloth, strands, start):
+    """The strands of a set to which a way within it leads from one of them, by a plain search."""
+    found, new = {start}, [start]
+    while new:
+        one = new.pop()
+        for other in strands:
+            if other not in found and crosses(cloth, one, other) and lies_over(cloth, one, other):
+                found.add(other)
+                new.append(other)
+    return found
+
+
+def hang_together(cloth, strands):
+    return all(reached_within(cloth, strands, strand) == set(strands) for strand in strands)
+
+
+def twill(over, under):
+    """A twill of so many ends and picks as both tell."""
+    size = over + under
+    return ["".join("#" if (x - y) % size < over else "." for x in range(size)) for y in range(size)]
+
+
+def satin(size, step):
+    return ["".join("#" if x == y * step % size else "." for x in range(size)) for y in range(size)]
+
+
+def stairs(size):
+    """A cloth whose strands lie one over the next in a long line: end 0, pick 0, end 1, pick 1 and so on.
+
+    Of two that cross and don't come next to one another in the line, the later one lies over.
+    """
+    return ["".join("#" if end == pick or end > pick + 1 else "." for end in range(size)) for pick in range(size)]
