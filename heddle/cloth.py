@@ -7,14 +7,7 @@ MOST_STRANDS = 40
 
 def measured(cloth):
     """Tell the pair (ends, picks) of a cloth."""
-    if len(cloth) < 1 or len(cloth) > MOST_STRANDS:
-        raise NoCloth("a cloth has 1 to 40 picks")
-    ends = len(cloth[0])
-    if ends < 1 or ends > MOST_STRANDS:
-        raise NoCloth("a cloth has 1 to 40 ends")
-    for text in cloth:
-        check_pick(text, ends)
-    return (ends, len(cloth))
+    return measured_texts(cloth, 1, "#.")
 
 
 def back_of(cloth):
@@ -45,13 +38,25 @@ def picks_apart(cloth, one, other):
     return first_unlike(cloth[one], cloth[other])
 
 
-def check_pick(text, ends):
-    """Refuse a text that is no pick of a cloth with so many ends."""
+def measured_texts(texts, least, signs):
+    """Tell the pair (ends, picks) of texts that are a cloth with at least so many of each, and of these signs."""
+    if len(texts) < least or len(texts) > MOST_STRANDS:
+        raise NoCloth("too few or too many picks")
+    ends = len(texts[0])
+    if ends < least or ends > MOST_STRANDS:
+        raise NoCloth("too few or too many ends")
+    for text in texts:
+        check_pick(text, ends, signs)
+    return (ends, len(texts))
+
+
+def check_pick(text, ends, signs):
+    """Refuse a text that is no pick of so many ends, and of these signs."""
     if len(text) != ends:
         raise NoCloth("the picks are not all of one length")
     for sign in text:
-        if sign != "#" and sign != ".":
-            raise NoCloth("a sign is neither # nor .")
+        if sign not in signs:
+            raise NoCloth("a sign is none of a cloth's")
 
 
 def check_strand(number, count):
