@@ -1,7 +1,7 @@
 """Ways along the strands of a cloth, and sets of strands that hang together or come apart."""
 
 from heddle.cloth import check_strand, measured
-from heddle.web import check_set, lower_strands, lower_within, way_to, ways_from
+from heddle.web import check_set, lower_strands, lower_within, upper_part, way_to, ways_from
 
 
 def way_between(cloth, one, other):
@@ -39,12 +39,3 @@ def web_of_set(cloth, strands):
     size = measured(cloth)
     check_set(strands, size[0] + size[1])
     return lower_within(lower_strands(cloth), strands)
-
-
-def upper_part(lower, strands):
-    """Tell strands of the set to which no way leads from one of the others, or None where there are none."""
-    for start in strands:
-        ahead = ways_from(lower, start)
-        if len(ahead) < len(strands):
-            return [strand for strand in strands if strand not in ahead]
-    return None

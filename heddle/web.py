@@ -53,3 +53,12 @@ def way_to(ahead, goal):
     while ahead[way[-1]] is not None:
         way.append(ahead[way[-1]])
     return list(reversed(way))
+
+
+def upper_part(lower, strands):
+    """Tell strands of the set to which no way leads from one of the others, or None where there are none."""
+    for start in strands:
+        ahead = ways_from(lower, start)
+        if len(ahead) < len(strands):
+            return [strand for strand in strands if strand not in ahead]
+    return None
