@@ -22,12 +22,16 @@ class Reader:
         self.place = behind
         return True
 
+    def stretch(self, signs):
+        """Read as many of these signs as come next, and tell them."""
+        begin = self.place
+        while not self.ended() and self.text[self.place] in signs:
+            self.place += 1
+        return self.text[begin:self.place]
+
     def number(self):
         """Read all figures that come next; tell the number, or None where they don't write one."""
-        begin = self.place
-        while not self.ended() and self.text[self.place] in FIGURES:
-            self.place += 1
-        return number_of(self.text[begin:self.place])
+        return number_of(self.stretch(FIGURES))
 
 
 def number_of(figures):

@@ -1,4 +1,4 @@
-"""Points 81, 82 and 85: pictures, threads' colours, what cloths show, and the half cloth of a picture; 1, 3, 5 of them."""
+"""Points 81, 82 and 85: pictures, colours, what cloths show, and the half cloth of a picture; 1, 3 and 5 of them."""
 
 import itertools
 import unittest
@@ -83,7 +83,8 @@ class TestFreeHalf(unittest.TestCase):
 
     def test_no_picture(self):
         for picture in NO_PICTURES:
-            for warp, weft in (("a", "a"), ("", ""), ("?", "z"), ("ab", "ab"), as_long(picture, "f"), as_long(picture, "a")):
+            for warp, weft in (("a", "a"), ("", ""), ("?", "z"), ("ab", "ab"), as_long(picture, "f"),
+                               as_long(picture, "a")):
                 with self.subTest(picture=picture[:3]):
                     with self.assertRaises(NoColour):
                         free_half(picture, warp, weft)

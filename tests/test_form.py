@@ -300,14 +300,17 @@ class TestFaultsAreSeen(unittest.TestCase):
                            ("L17", "def a(b):\n    b.register(1)"), ("L15", "def a(hash):\n    pass"),
                            ("L15", "def a():\n    next = 1"), ("L20", "def a(b, c):\n    return b is c"),
                            ("L25", "def a(b):\n    b.sort()"), ("L27", "a = '%'"),
-                           ("L15", "A = [1]\n\n\ndef a():\n    A.append(2)"), ("L15", "A = [1]\n\n\ndef a():\n    return A"),
+                           ("L15", "A = [1]\n\n\ndef a():\n    A.append(2)"),
+                           ("L15", "A = [1]\n\n\ndef a():\n    return A"),
                            ("L15", "A = [1]\n\n\ndef a():\n    A[0] = 2"),
                            ("L18", "class A:\n    pass\n\n\ndef a(b):\n    b(A)"),
-                           ("L19", "def a(b):\n    raise b"), ("L19", "def a():\n    try:\n        b()\n    except:\n        c()"),
+                           ("L19", "def a(b):\n    raise b"),
+                           ("L19", "def a():\n    try:\n        b()\n    except:\n        c()"),
                            ("L22", "def a(b):\n    return b(len)"),
                            ("L23", "def a(b):\n    c = range(b)"), ("L23", "def a(b):\n    return b.items()"),
-                           ("L23", "def a(b, c):\n    return max(c, range(b))"), ("L23", "def a(b):\n    return b(zip(b, b))"),
-                           ("L24", "def a(b):\n    c = set(b)"), ("L24", "def a(b):\n    for c in set(b):\n        c()"),
+                           ("L23", "def a(b, c):\n    return max(c, range(b))"),
+                           ("L23", "def a(b):\n    return b(zip(b, b))"), ("L24", "def a(b):\n    c = set(b)"),
+                           ("L24", "def a(b):\n    for c in set(b):\n        c()"),
                            ("L24", "def a(b):\n    return sorted(set(b), key=len)")):
             faults = faults_of(text, set())
             self.assertTrue(any(rule in fault for fault in faults), (rule, text, faults))

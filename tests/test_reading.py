@@ -26,6 +26,15 @@ class TestReader(unittest.TestCase):
         self.assertFalse(reader.took("*("))
         self.assertTrue(reader.took("*"))
 
+    def test_stretch_reads_as_many_of_the_signs_as_come_next(self):
+        reader = Reader("ab##.a ")
+        self.assertEqual(reader.stretch("#."), "")
+        self.assertEqual(reader.stretch("abc"), "ab")
+        self.assertEqual(reader.stretch("#."), "##.")
+        self.assertEqual(reader.stretch("ab "), "a ")
+        self.assertTrue(reader.ended())
+        self.assertEqual(reader.stretch("ab "), "")
+
     def test_number_reads_all_figures_that_come_next(self):
         reader = Reader("7-99 0")
         self.assertEqual(reader.number(), 7)
