@@ -21,6 +21,7 @@ def round_way(cloth, strands):
     if upper_part(lower, strands) is not None:
         return None
     way = [strands[0]]
+    # Each shortest way has fewer steps than the set has strands, and there are not more of them than strands.
     for strand in strands[1:]:
         if strand not in way:
             way.extend(way_to(ways_from(lower, way[-1]), strand)[1:])

@@ -39,9 +39,10 @@ def ways_from(lower, start):
     found = [start]
     place = 0
     while place < len(found):
-        for other in lower[found[place]]:
+        one = found[place]
+        for other in lower[one]:
             if other not in ahead:
-                ahead[other] = found[place]
+                ahead[other] = one
                 found.append(other)
         place += 1
     return ahead
@@ -56,7 +57,10 @@ def way_to(ahead, goal):
 
 
 def upper_part(lower, strands):
-    """Tell strands of the set to which no way leads from one of the others, or None where there are none."""
+    """Tell a part of the set to which no way leads from the rest of it, or None where ways lead from each to all.
+
+    lower has ways within the set alone.
+    """
     for start in strands:
         ahead = ways_from(lower, start)
         if len(ahead) < len(strands):

@@ -195,6 +195,24 @@ def faults_of_shared(tree):
                 yield f"L15: line {node.lineno}"
 
 
+CHANGES = set("append clear extend insert pop remove reverse setdefault update add discard".split())
+
+
+def faults_of_loops(tree):
+    """L23: what a loop walks is not changed in it."""
+    for node in ast.walk(tree):
+        if not isinstance(node, ast.For):
+            continue
+        walked = {ast.unparse(part) for part in ast.walk(node.iter) if isinstance(part, (ast.Name, ast.Attribute))}
+        for part in [inner for line in node.body for inner in ast.walk(line)]:
+            if isinstance(part, ast.Subscript) and isinstance(part.ctx, ast.Store):
+                if ast.unparse(part.value) in walked:
+                    yield f"L23: line {part.lineno}"
+            if isinstance(part, ast.Call) and isinstance(part.func, ast.Attribute) and part.func.attr in CHANGES:
+                if ast.unparse(part.func.value) in walked:
+                    yield f"L23: line {part.lineno}"
+
+
 def faults_of_handlers(tree):
     """L19: which errors are taken, and that each is made where it is raised."""
     for node in ast.walk(tree):
@@ -227,7 +245,8 @@ def values_of(trees):
 def faults_of(text, own_methods):
     tree = ast.parse(text)
     faults = list(faults_of_text(text))
-    for of_tree in (faults_of_top, faults_of_names, faults_of_places, faults_of_shared, faults_of_handlers):
+    for of_tree in (faults_of_top, faults_of_names, faults_of_places, faults_of_shared, faults_of_loops,
+                    faults_of_handlers):
         faults.extend(of_tree(tree))
     for node in ast.walk(tree):
         faults.extend(faults_of_node(node, own_methods))
@@ -311,6 +330,8 @@ class TestFaultsAreSeen(unittest.TestCase):
                            ("L23", "def a(b, c):\n    return max(c, range(b))"),
                            ("L23", "def a(b):\n    return b(zip(b, b))"), ("L24", "def a(b):\n    c = set(b)"),
                            ("L24", "def a(b):\n    for c in set(b):\n        c()"),
+                           ("L23", "def a(b):\n    for c in b:\n        b.append(c)"),
+                           ("L23", "def a(b):\n    for c, d in enumerate(b):\n        b[c] = d"),
                            ("L24", "def a(b):\n    return sorted(set(b), key=len)")):
             faults = faults_of(text, set())
             self.assertTrue(any(rule in fault for fault in faults), (rule, text, faults))
